@@ -48,6 +48,14 @@ def nested(kind, depth):
     return thing
 
 
+def doubled(depth):
+    """A tuple that holds the same tuple twice, and so on, so deep."""
+    thing = ()
+    for _ in range(depth - 1):
+        thing = (thing, thing)
+    return thing
+
+
 # None of these is a whole number or a tuple.
 NEITHER = (
     None, True, False, "", "0", "1", "look", "once", "box", 0.0, 1.0, 2.5, float("nan"), 1j,

@@ -23,3 +23,12 @@ def word_of(thing):
     if isinstance(thing, tuple) and len(thing) > 0 and isinstance(thing[0], str):
         return thing[0]
     return None
+
+
+def is_same(thing, value):
+    # The value is walked, not the thing, which may be far larger; a truth in it is no number.
+    if not isinstance(value, tuple):
+        return is_whole(thing) and thing == value
+    if not is_tuple_of(thing, len(value), len(value)):
+        return False
+    return all([is_same(part, own) for part, own in zip(thing, value)])

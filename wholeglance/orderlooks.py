@@ -1,7 +1,7 @@
 """Whether a thing is an order that a story fits, or rooms which show that there is none."""
 
 from wholeglance.boxes import zeros
-from wholeglance.kinds import is_tuple_of, is_whole, is_within
+from wholeglance.kinds import is_same, is_tuple_of, is_within
 from wholeglance.orderrooms import bits_of, ended_bits, fits, leads, plan_of, state_behind
 from wholeglance.stories_told import is_ahead
 from wholeglance.values import is_value
@@ -76,10 +76,4 @@ def is_state_of(places, values, thing):
     if not is_tuple_of(thing, places, places):
         return False
     # What the story itself puts may stand, however large it is.
-    return all([is_value(part) or (is_made_of_wholes(part) and part in values) for part in thing])
-
-
-def is_made_of_wholes(thing):
-    if not isinstance(thing, tuple):
-        return is_whole(thing)
-    return all([is_made_of_wholes(part) for part in thing])
+    return all([is_value(part) or any([is_same(part, value) for value in values]) for part in thing])

@@ -2,6 +2,7 @@
 
 from wholeglance.boxes import zeros
 from wholeglance.orderrooms import ended_bits, leads, plan_of
+from wholeglance.ways import way_to
 
 
 def ordered(places, story):
@@ -19,14 +20,6 @@ def ordered(places, story):
                 came[behind] = (number, room)
                 still.append(behind)
     return ("none", tuple([(rows_done(done, len(story)), state) for done, state in came]))
-
-
-def way_to(came, room):
-    way = []
-    while came[room] is not None:
-        way.append(came[room][0])
-        room = came[room][1]
-    return tuple(reversed(way))
 
 
 def rows_done(done, rows):
