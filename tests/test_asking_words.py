@@ -6,6 +6,7 @@ from tests.asking import Asking
 from tests.contents import Contents
 from tests.deedwords import Walk
 from tests.samples import all_plain_manners, plain_manners, tables
+from tests.tablemaking import drawn_tables
 from wholeglance.asking import next_step
 from wholeglance.manners import is_manner, places_of
 
@@ -66,33 +67,8 @@ class TestByWords(Asking):
     def test_tables(self):
         chance = random.Random(34)
         for _ in range(300):
-            manner = drawn_tables(chance)
+            manner = drawn_tables(chance, chance.randint(1, 3), chance.randint(1, 3))
             self.assertTrue(is_manner(manner), manner)
             for _ in range(4):
                 self.try_all(manner, chance, 0.5)
         self.try_all(tables(3, 2), chance, 0.5)
-
-
-def drawn_tables(chance):
-    hands, boxes = chance.randint(1, 3), chance.randint(1, 3)
-    puts = tuple(drawn_table(chance, boxes, ("end",)) for _ in range(hands))
-    looks = tuple(drawn_table(chance, boxes, ("told", tuple(chance.randrange(2) for _ in range(hands))))
-                  for _ in range(hands))
-    return ("tables", hands, boxes, puts, looks)
-
-
-def drawn_table(chance, boxes, end):
-    rows = chance.randint(2, 8)
-    made = [drawn_row(chance, boxes, rows) for _ in range(rows)]
-    for place in range(1, rows):
-        if chance.random() < 0.4:
-            made[place] = end
-    return tuple(made)
-
-
-def drawn_row(chance, boxes, rows):
-    box, row = chance.randrange(boxes), chance.randrange(rows)
-    if chance.random() < 0.4:
-        return ("write", box, chance.randrange(4), row)
-    told = sorted(chance.sample(range(5), chance.randint(0, 3)))
-    return ("read", box, tuple((content, chance.randrange(rows)) for content in told), row)

@@ -125,6 +125,13 @@ class TestShowsNone(Asking):
                 state = with_part((4, (), -1), place, wrong)
                 self.fails(shows_none, 3, rows, (((), (0, 0, 0)), ((1,), state)))
 
+    def test_a_value_beyond_the_bounds_stands_where_the_story_puts_it(self):
+        for value in (10 ** 13, (10 ** 13, 1), (((((0, 1),),),),), (0,) * 9):
+            rows = (look(0, 0, 1, 5), put(1, 0, value, 1, 2))
+            self.holds(shows_none, 1, rows, (((), (0,)), ((1,), (value,))))
+            for wrong in spoiled(value) + [(value,), 10 ** 13 + 1, (10 ** 13,), (10 ** 13, 2), (10 ** 13, 1, 1), (0,) * 10]:
+                self.fails(shows_none, 1, rows, (((), (0,)), ((1,), (wrong,))))
+
     def test_things_of_any_kind(self):
         for wrong in spoiled(ROOMS):
             self.fails(shows_none, 1, NONE, wrong)

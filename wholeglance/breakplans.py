@@ -16,9 +16,8 @@ def has_stale_views(manner):
         return moves == 1
     if word == "signs":
         return moves == 1 and number_of(manner, "toggles") + number_of(manner, "shakes") > 0
-    if number_of(manner, "shakes") == 1:
-        return moves <= 2
-    return moves == 1 and places_of(manner) == 1
+    # A call may show a put ahead of its view, so that one view is seen twice.
+    return moves <= 1 + number_of(manner, "shakes")
 
 
 def stale_plan(manner):

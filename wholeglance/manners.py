@@ -38,6 +38,11 @@ def are_numbers_of(word, numbers):
     return all([is_allowed(name, number) for name, number in zip(NUMBERS[word], numbers)])
 
 
+def count_of_numbers(word):
+    # None of what is no manner's word.
+    return len(NUMBERS[word]) if word in NUMBERS else None
+
+
 def is_allowed(name, thing):
     return is_whole(thing) and thing in ALLOWED[name]
 
