@@ -176,6 +176,11 @@ class TestNoEnd(Hiding):
         chance = random.Random(243)
         for _ in range(20):
             for hands, boxes in SIZES[1:]:
-                manner = drawn_tables(chance, hands, boxes, False, 8)
-                if self.refused(manner) is None:
+                manner = drawn_tables(chance, hands, boxes, False, 5)
+                hand = self.refused(manner)
+                if hand is None:
                     self.shown(manner)
+                else:
+                    # The last hand looks and the others put; the other deed is asked of only where this one ends.
+                    words = ("look", "put") if hand == hands - 1 else ("put", "look")
+                    self.assertFalse(all(always_ends(manner, hand, word, 300) for word in words), (manner, hand))
