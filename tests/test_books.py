@@ -81,13 +81,13 @@ class TestBook(Asking):
             self.assertEqual(self.asked(book, ("once", 2), waiting, most), ("open", None))
 
     def test_answers_that_do_not_fit_break(self):
-        # Two hands take the third one's view of ahead of their looks, and so the same name.
-        jobs = (("name", 7), ("name", 3), ("name", 5))
+        # Two hands take the third one's view of ahead of their looks, and so the same name, or numbers far apart.
         weaving = (2,) * 6 + (0,) * 7 + (1,) * 7 + (0,) * 3 + (1,) * 3 + (2,) + (0,) * 3 + (1,) * 3
-        self.holds(shows_break, ("handed", 3, 0, 1), jobs, weaving)
-        # No look ends with the next step, yet the answers behind it don't fit.
-        self.holds(shows_break, ("handed", 3, 0, 1), jobs, weaving + (2,))
-        self.fails(shows_break, ("handed", 3, 0, 1), jobs, weaving[:-1])
+        for jobs in ((("name", 7), ("name", 3), ("name", 5)), (("closer", 0, 1), ("closer", 8, 1), ("closer", 4, 1))):
+            self.holds(shows_break, ("handed", 3, 0, 1), jobs, weaving)
+            # No look ends with the next step, yet the answers behind it don't fit.
+            self.holds(shows_break, ("handed", 3, 0, 1), jobs, weaving + (2,))
+            self.fails(shows_break, ("handed", 3, 0, 1), jobs, weaving[:-1])
 
 
 class TestByWords(Asking):
